@@ -1,0 +1,1 @@
+"""Crossgrants: cells that cross by asks and grants."""

@@ -1,0 +1,10 @@
+"""The names of settings that several files share."""
+
+ROUNDS = 4
+
+GRANTS = "grants"
+FIRST = "first"
+
+EVEN = "even"
+EARLY = "early"
+LATE = "late"

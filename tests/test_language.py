@@ -1,0 +1,126 @@
+"""The rules of LANGUAGE.md that can be read off the package's files one by one.
+
+Not all rules stand here: those for parts of Python that the package does not use are met by not using them.
+"""
+
+import ast
+import builtins
+import pathlib
+import re
+import unittest
+
+PACKAGE = pathlib.Path(__file__).resolve().parent.parent / "crossgrants"
+
+BUILTINS = set(
+    "len range enumerate zip min max sum abs sorted reversed int str bool bytes list tuple dict set frozenset"
+    " isinstance ord repr any all divmod iter next Exception ValueError TypeError KeyError IndexError LookupError"
+    " ZeroDivisionError ArithmeticError OverflowError RuntimeError NotImplementedError AttributeError StopIteration"
+    " NotImplemented".split()
+)
+BARRED_WORDS = (
+    r"\b(type|typing|typing_extensions|enum|Enum|IntEnum|StrEnum|Flag|IntFlag|Generic|Protocol|ABC|ABCMeta"
+    r"|namedtuple|NamedTuple|TypedDict|TYPE_CHECKING|abstractmethod)\b|dataclass|overload|contextmanager"
+)
+BARRED_NODES = (
+    ast.Global, ast.AsyncFunctionDef, ast.AsyncFor, ast.AsyncWith, ast.Await, ast.Div, ast.MatMult, ast.Import,
+)
+DOUBLE_NAMES = {"__init__", "__eq__", "__repr__", "__str__", "__len__", "__enter__", "__exit__", "__call__", "__iter__"}
+
+
+def files():
+    return sorted(path for path in PACKAGE.rglob("*") if path.is_file() and "__pycache__" not in path.parts)
+
+
+def trees():
+    return [(path.name, ast.parse(path.read_text())) for path in files()]
+
+
+def nodes(kinds):
+    return [(name, node) for name, tree in trees() for node in ast.walk(tree) if isinstance(node, kinds)]
+
+
+class FilesTest(unittest.TestCase):
+    def test_plain_file_names_alone(self):
+        self.assertIn("__init__.py", [path.name for path in files()])
+        for path in files():
+            self.assertRegex(path.name, r"^([a-z][a-z0-9_]*|__init__)\.py$")
+
+    def test_characters(self):
+        for path in files():
+            self.assertEqual(re.findall(rb"[^\n -~]", path.read_bytes()), [], path.name)
+
+    def test_sizes(self):
+        for path in files():
+            lines = path.read_text().splitlines()
+            self.assertLessEqual(len(lines), 400, path.name)
+            self.assertLessEqual(max(len(line) for line in lines), 120, path.name)
+        for name, node in nodes(ast.FunctionDef):
+            self.assertLessEqual(node.end_lineno - node.lineno + 1, 40, (name, node.name))
+
+    def test_barred_words(self):
+        for path in files():
+            self.assertIsNone(re.search(BARRED_WORDS, path.read_text()), path.name)
+
+    def test_strings(self):
+        for name, node in nodes(ast.Constant):
+            if isinstance(node.value, str):
+                self.assertNotIn("%", node.value, name)
+            self.assertNotIsInstance(node.value, (float, complex), name)
+
+
+class CodeTest(unittest.TestCase):
+    def test_imports_are_of_the_package_by_full_names(self):
+        for name, node in nodes(ast.ImportFrom):
+            self.assertEqual(node.level, 0, name)
+            self.assertRegex(node.module, r"^crossgrants\.[a-z_]+$", name)
+            self.assertNotIn("*", [alias.name for alias in node.names], name)
+
+    def test_module_level(self):
+        allowed = (ast.ImportFrom, ast.FunctionDef, ast.ClassDef, ast.Assign)
+        for name, tree in trees():
+            self.assertIsNotNone(ast.get_docstring(tree), name)
+            for node in tree.body[1:]:
+                self.assertIsInstance(node, allowed, name)
+
+    def test_barred_parts_of_python(self):
+        self.assertEqual(nodes(BARRED_NODES), [])
+        for name, node in nodes((ast.FunctionDef, ast.ClassDef)):
+            self.assertEqual([ast.unparse(item) for item in node.decorator_list], [], (name, node.name))
+
+    def test_builtins(self):
+        for name, node in nodes(ast.Name):
+            if hasattr(builtins, node.id):
+                self.assertIn(node.id, BUILTINS, name)
+                self.assertIsInstance(node.ctx, ast.Load, name)
+
+    def test_names_do_not_begin_with_an_underscore(self):
+        for name, node in nodes((ast.FunctionDef, ast.ClassDef)):
+            if node.name not in DOUBLE_NAMES:
+                self.assertFalse(node.name.startswith("_"), (name, node.name))
+        for name, node in nodes(ast.Name):
+            self.assertFalse(node.id.startswith("_"), (name, node.id))
+        for name, node in nodes(ast.arg):
+            self.assertFalse(node.arg.startswith("_"), (name, node.arg))
+            self.assertFalse(hasattr(builtins, node.arg), (name, node.arg))
+
+    def test_is_stands_with_none_true_and_false_alone(self):
+        for name, node in nodes(ast.Compare):
+            for sign, side in zip(node.ops, node.comparators):
+                if isinstance(sign, (ast.Is, ast.IsNot)):
+                    self.assertIn(ast.unparse(side), ("None", "True", "False"), name)
+
+    def test_names_are_bound_once_at_module_level(self):
+        for name, tree in trees():
+            bound = []
+            for node in tree.body:
+                if isinstance(node, ast.ImportFrom):
+                    bound.extend(alias.asname or alias.name for alias in node.names)
+                elif isinstance(node, ast.Assign):
+                    bound.extend(target.id for target in node.targets)
+                elif isinstance(node, (ast.FunctionDef, ast.ClassDef)):
+                    bound.append(node.name)
+            self.assertEqual(len(bound), len(set(bound)), name)
+
+
+if __name__ == "__main__":
+    unittest.main()

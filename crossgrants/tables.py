@@ -5,9 +5,9 @@ from crossgrants.kinds import is_number
 MOST_PLACES = 12
 
 
-def is_size(many):
-    """Whether a table may have so many inlets, or so many outlets."""
-    return 1 <= many <= MOST_PLACES
+def is_size(thing):
+    """Whether there may be so many inlets, or so many outlets."""
+    return is_number(thing) and 1 <= thing <= MOST_PLACES
 
 
 def is_mark(thing):
@@ -28,6 +28,11 @@ def is_table(thing):
     if not isinstance(first, list) or not is_size(len(first)):
         return False
     return all([is_row(row, len(first)) for row in thing])
+
+
+def outlets_in(table):
+    """How many outlets a table has."""
+    return len(table[0]) if table else 0
 
 
 def asks_of(table):

@@ -24,7 +24,11 @@ BARRED_WORDS = (
 BARRED_NODES = (
     ast.Global, ast.AsyncFunctionDef, ast.AsyncFor, ast.AsyncWith, ast.Await, ast.Div, ast.MatMult, ast.Import,
 )
-DOUBLE_NAMES = {"__init__", "__eq__", "__repr__", "__str__", "__len__", "__enter__", "__exit__", "__call__", "__iter__"}
+DOUBLE_NAMES = set(
+    "__init__ __eq__ __repr__ __str__ __len__ __enter__ __exit__ __call__ __iter__ __lt__ __le__ __gt__ __ge__ __ne__"
+    " __bool__ __contains__ __getitem__ __setitem__".split()
+)
+FOLDED = {"any", "all", "min", "max", "sum", "sorted"}
 
 
 def files():
@@ -53,7 +57,7 @@ class FilesTest(unittest.TestCase):
         for path in files():
             lines = path.read_text().splitlines()
             self.assertLessEqual(len(lines), 400, path.name)
-            self.assertLessEqual(max(len(line) for line in lines), 120, path.name)
+            self.assertLessEqual(max([len(line) for line in lines], default=0), 120, path.name)
         for name, node in nodes(ast.FunctionDef):
             self.assertLessEqual(node.end_lineno - node.lineno + 1, 40, (name, node.name))
 
@@ -72,25 +76,26 @@ class CodeTest(unittest.TestCase):
     def test_imports_are_of_the_package_by_full_names(self):
         for name, node in nodes(ast.ImportFrom):
             self.assertEqual(node.level, 0, name)
-            self.assertRegex(node.module, r"^crossgrants\.[a-z_]+$", name)
+            self.assertRegex(node.module, r"^(crossgrants\.[a-z0-9_.]+|__future__)$", name)
             self.assertNotIn("*", [alias.name for alias in node.names], name)
 
     def test_module_level(self):
-        allowed = (ast.ImportFrom, ast.FunctionDef, ast.ClassDef, ast.Assign)
+        allowed = (ast.ImportFrom, ast.FunctionDef, ast.ClassDef, ast.Assign, ast.AnnAssign)
         for name, tree in trees():
-            self.assertIsNotNone(ast.get_docstring(tree), name)
-            for node in tree.body[1:]:
+            for node in tree.body[0 if ast.get_docstring(tree) is None else 1:]:
                 self.assertIsInstance(node, allowed, name)
 
     def test_barred_parts_of_python(self):
         self.assertEqual(nodes(BARRED_NODES), [])
         for name, node in nodes((ast.FunctionDef, ast.ClassDef)):
-            self.assertEqual([ast.unparse(item) for item in node.decorator_list], [], (name, node.name))
+            for item in node.decorator_list:
+                self.assertIsInstance(node, ast.FunctionDef, name)
+                self.assertRegex(ast.unparse(item), r"^(property|\w+\.setter|staticmethod|classmethod)$", name)
 
     def test_builtins(self):
         for name, node in nodes(ast.Name):
             if hasattr(builtins, node.id):
-                self.assertIn(node.id, BUILTINS, name)
+                self.assertIn(node.id, BUILTINS | {"property", "staticmethod", "classmethod", "super"}, name)
                 self.assertIsInstance(node.ctx, ast.Load, name)
 
     def test_names_do_not_begin_with_an_underscore(self):
@@ -120,6 +125,34 @@ class CodeTest(unittest.TestCase):
                 elif isinstance(node, (ast.FunctionDef, ast.ClassDef)):
                     bound.append(node.name)
             self.assertEqual(len(bound), len(set(bound)), name)
+
+    def test_no_variable_has_the_name_of_a_class_or_an_import_of_its_file(self):
+        for name, tree in trees():
+            taken = {node.name for node in tree.body if isinstance(node, ast.ClassDef)}
+            for node in tree.body:
+                if isinstance(node, ast.ImportFrom):
+                    taken |= {alias.asname or alias.name for alias in node.names}
+            for node in ast.walk(tree):
+                if isinstance(node, ast.Name) and isinstance(node.ctx, ast.Store):
+                    self.assertNotIn(node.id, taken, name)
+                elif isinstance(node, ast.arg):
+                    self.assertNotIn(node.arg, taken, name)
+
+    def test_no_name_is_a_method_and_an_attribute(self):
+        methods = {
+            method.name for name, node in nodes(ast.ClassDef)
+            for method in node.body if isinstance(method, ast.FunctionDef) and not method.decorator_list
+        }
+        stored = {node.attr for name, node in nodes(ast.Attribute) if isinstance(node.ctx, ast.Store)}
+        self.assertEqual(methods & stored, set())
+
+    def test_lists_are_folded_and_sorted(self):
+        for name, node in nodes(ast.Call):
+            if isinstance(node.func, ast.Name) and node.func.id in FOLDED:
+                for part in node.args:
+                    self.assertNotIsInstance(part, ast.GeneratorExp, name)
+            elif isinstance(node.func, ast.Attribute):
+                self.assertNotEqual(node.func.attr, "sort", name)
 
 
 if __name__ == "__main__":

@@ -5,71 +5,15 @@ import itertools
 import unittest
 
 from crossgrants.tables import asks_of, is_table, left_out, turned
-
-SIZES = [(inlets, outlets) for inlets in range(1, 13) for outlets in range(1, 13)]
-SOME_SIZES = [(1, 1), (1, 12), (12, 1), (2, 3), (5, 4), (12, 11), (12, 12)]
+from helpers import ODD_THINGS, SIZES, SOME_SIZES, SameTest, all_tables, filled, forms, mixed, small_tables
 
 
-def mixed(inlets, outlets, seed=3):
-    """A table whose numbers look mixed, but are the same each time."""
-    return [[(i * i + seed * o * i + o * o + seed) // 2 % 2 for o in range(outlets)] for i in range(inlets)]
-
-
-def filled(inlets, outlets, number):
-    return [[number] * outlets for inlet in range(inlets)]
-
-
-def small_tables():
-    """Every table of at most three inlets and three outlets."""
-    for inlets, outlets in itertools.product(range(1, 4), repeat=2):
-        for numbers in itertools.product((0, 1), repeat=inlets * outlets):
-            yield [list(numbers[i * outlets:(i + 1) * outlets]) for i in range(inlets)]
-
-
-def large_tables():
-    for inlets, outlets in SIZES:
-        yield filled(inlets, outlets, 0)
-        yield filled(inlets, outlets, 1)
-        yield mixed(inlets, outlets)
-
-
-def all_tables():
-    yield from small_tables()
-    yield from large_tables()
-
-
-def forms(table):
-    """The same table as lists and tuples."""
-    return [
-        table,
-        tuple(table),
-        [tuple(row) for row in table],
-        tuple(tuple(row) for row in table),
-        tuple(tuple(row) if at % 2 else list(row) for at, row in enumerate(table)),
-    ]
-
-
-class TablesTest(unittest.TestCase):
-    def assert_same(self, told, wanted):
-        """Equal, and of the same kinds all through: 1 is not True, a list is no tuple."""
-        self.assertEqual(repr(told), repr(wanted))
-
-    def assert_untouched(self, ask, *handed):
-        """The answer to ask, which left all that was handed in as it was."""
-        kept = copy.deepcopy(handed)
-        told = ask(*handed)
-        self.assert_same(handed, kept)
-        return told
-
-
-class IsTableTest(TablesTest):
+class IsTableTest(SameTest):
     def is_so(self, thing):
-        self.assertIs(self.assert_untouched(is_table, thing), True, thing)
-        self.assertIs(is_table(thing), True, thing)
+        self.assert_told(is_table, True, thing)
 
     def is_not_so(self, thing):
-        self.assertIs(self.assert_untouched(is_table, thing), False, thing)
-        self.assertIs(is_table(thing), False, thing)
+        self.assert_told(is_table, False, thing)
 
     def test_right_tables(self):
         for table in all_tables():
@@ -94,7 +38,7 @@ class IsTableTest(TablesTest):
         for inlets, outlets in SOME_SIZES:
             for inlet in range(inlets):
                 row = mixed(inlets, outlets)[inlet]
-                wrong = [[], (), tuple(row), [row], [row, row], None, True, False, 0, 1, 5, "", "0", "01", "1" * outlets]
+                wrong = [[], (), tuple(row), [row], [row, row], None, True, False, 0, 5, "", "0", "01", "1" * outlets]
                 if inlets > 1:
                     wrong.extend([row + [0], row + [1], row[1:], row + row])
                 for thing in wrong:
@@ -130,15 +74,14 @@ class IsTableTest(TablesTest):
             self.is_not_so(filled(many, 0, 0))
 
     def test_other_things(self):
-        for thing in [
-            0, 1, -1, 12, 10**30, True, False, None, "", "0", "01", "table", "[[0]]",
-            [0], [1], [0, 1], [None], [True], ["0"], ["01", "10"], [[0], 1], [[0], None], [None, [0]], ["0", [0]],
-            (0, 1), ((0,),), ([0],), [[[0]]], [[[[[[]]]]]], ((((((),),),),),), [[[[[[1]]]]]], ((((((0,),),),),),),
+        for thing in ODD_THINGS + [
+            "table", "[[0]]", [True], ["0"], ["01", "10"], [[0], 1], [[0], None], [None, [0]], ["0", [0]],
+            ((0,),), ([0],), [[[0]]],
         ]:
             self.is_not_so(thing)
 
 
-class AsksOfTest(TablesTest):
+class AsksOfTest(SameTest):
     def test_all_pairs_whose_number_is_1_rising(self):
         for table in all_tables():
             asks = asks_of(table)
@@ -175,7 +118,7 @@ class AsksOfTest(TablesTest):
         self.assert_same(asks_of(table), [(0, 1), (1, 0)])
 
 
-class TurnedTest(TablesTest):
+class TurnedTest(SameTest):
     def test_outlets_for_inlets(self):
         for table in all_tables():
             told = turned(table)
@@ -222,7 +165,7 @@ class TurnedTest(TablesTest):
         self.assert_same(told, [[0, 1, 1], [1, 1, 1], [1, 1, 1]])
 
 
-class LeftOutTest(TablesTest):
+class LeftOutTest(SameTest):
     def wanted(self, table, inlets, outlets):
         rows = copy.deepcopy(table)
         for inlet in inlets:

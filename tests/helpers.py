@@ -5,6 +5,8 @@ import itertools
 import random
 import unittest
 
+from crossgrants.grants import Grants
+
 SIZES = [(inlets, outlets) for inlets in range(1, 13) for outlets in range(1, 13)]
 SOME_SIZES = [(1, 1), (1, 12), (12, 1), (2, 3), (5, 4), (12, 11), (12, 12)]
 
@@ -99,6 +101,56 @@ def drawn_pairs(draw, table):
         if all(inlet != one and outlet != other for one, other in pairs):
             pairs.append((inlet, outlet))
     return sorted(pairs)
+
+
+def drawn_numbers(draw, inlets, outlets, most):
+    return [[draw.randint(0, most) for outlet in range(outlets)] for inlet in range(inlets)]
+
+
+def drawn_loads(seed, many):
+    """Loads of drawn sizes: thin ones, heavy ones, ones that are just beyond or just within their beats."""
+    draw = random.Random(seed)
+    for turn in range(many):
+        inlets, outlets = draw.randint(1, 8), draw.randint(1, 8)
+        numbers = drawn_numbers(draw, inlets, outlets, draw.choice((1, 1, 2, 3, 6, 24)))
+        heaviest = max(map(sum, numbers + list(zip(*numbers))))
+        yield (max(1, min(24, heaviest + draw.choice((-3, -1, 0, 0, 1, 5, heaviest, heaviest + 1)))), numbers)
+
+
+def fitting_load(draw, inlets, outlets, beats):
+    """A load of as many cells as its beats have room for, or fewer: one or none of each pair in each beat."""
+    numbers = filled(inlets, outlets, 0)
+    share = draw.choice((2, 5, 9, 10))
+    for beat in range(beats):
+        some, others = draw.sample(range(inlets), inlets), draw.sample(range(outlets), outlets)
+        for inlet, outlet in zip(some, others):
+            numbers[inlet][outlet] += 1 if draw.randrange(10) < share else 0
+    return (beats, numbers)
+
+
+def fitting_loads(seed, many):
+    draw = random.Random(seed)
+    for turn in range(many):
+        yield fitting_load(draw, draw.randint(1, 8), draw.randint(1, 8), draw.randint(1, 24))
+
+
+def drawn_shares(draw, inlets, outlets):
+    most = draw.choice((1, 2, 3, 9))
+    return [[draw.randint(1, most) for inlet in range(inlets)] for outlet in range(outlets)]
+
+
+def moved_grants(draw, inlets, outlets, shares=None):
+    """A Grants behind some drawn beats."""
+    grants = Grants(inlets, outlets, shares=shares)
+    for turn in range(draw.randrange(6)):
+        grants.beat(drawn_table(draw, inlets, outlets), rounds=draw.randint(1, 4))
+    return grants
+
+
+def drawn_grants(draw, most=12):
+    """A Grants of a drawn size, with shares or without, behind some beats."""
+    inlets, outlets = draw.randint(1, most), draw.randint(1, most)
+    return moved_grants(draw, inlets, outlets, draw.choice((None, drawn_shares(draw, inlets, outlets))))
 
 
 def spoiled(thing):

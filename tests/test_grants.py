@@ -8,7 +8,9 @@ import unittest
 from crossgrants.errors import BadShares, BadSize
 from crossgrants.grants import Grants, pairs_by
 from crossgrants.pairs import are_pairs, free_ask
-from helpers import ODD_THINGS, SIZES, SOME_SIZES, SameTest, drawn_table, filled, forms, mixed
+from helpers import (
+    ODD_THINGS, SIZES, SOME_SIZES, SameTest, drawn_grants, drawn_shares, drawn_table, filled, forms, mixed,
+)
 
 NO_SIZES = [0, 13, 14, 24, -1, -12, 10**30, -(10**30), True, False, None, "", "1", "12", "inlets"]
 NO_SHARES = [0, 10, 11, -1, 10**30, True, False, None, "", "1", "ab"]
@@ -59,21 +61,6 @@ class Plain:
             following = inlet + 1 if inlet + 1 < self.inlets else 0
             self.at_outlet[outlet] = (inlet, many) if many < self.shares[inlet, outlet] else (following, 0)
             self.at_inlet[inlet] = outlet + 1 if outlet + 1 < self.outlets else 0
-
-
-def drawn_shares(draw, inlets, outlets):
-    most = draw.choice((1, 2, 3, 9))
-    return [[draw.randint(1, most) for inlet in range(inlets)] for outlet in range(outlets)]
-
-
-def drawn_grants(draw, most=12):
-    """A Grants of a drawn size, with shares or without, behind some beats."""
-    inlets, outlets = draw.randint(1, most), draw.randint(1, most)
-    shares = draw.choice((None, drawn_shares(draw, inlets, outlets)))
-    grants = Grants(inlets, outlets, shares=shares)
-    for turn in range(draw.randrange(6)):
-        grants.beat(drawn_table(draw, inlets, outlets), rounds=draw.randint(1, 4))
-    return grants
 
 
 class MadeTest(SameTest):

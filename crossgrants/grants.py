@@ -1,7 +1,7 @@
 """A beat, round by round: inlets ask, outlets grant, inlets accept."""
 
 from crossgrants.errors import BadShares, BadSize
-from crossgrants.kinds import is_number
+from crossgrants.kinds import is_between, is_list_or_tuple
 from crossgrants.pairs import asks_left
 from crossgrants.pointers import accepted, granted, passed
 from crossgrants.tables import is_size, turned
@@ -12,19 +12,19 @@ MOST_SHARE = 9
 
 def is_share(thing):
     """Whether it may be the share of an inlet."""
-    return is_number(thing) and 1 <= thing <= MOST_SHARE
+    return is_between(thing, 1, MOST_SHARE)
 
 
 def are_shares(thing, inlets):
     """Whether it is shares of an outlet for so many inlets."""
-    return isinstance(thing, (list, tuple)) and len(thing) == inlets and all([is_share(share) for share in thing])
+    return is_list_or_tuple(thing) and len(thing) == inlets and all([is_share(share) for share in thing])
 
 
 def shares_for(inlets, outlets, shares):
     """The shares of each outlet, the asker's own; refused where they aren't such."""
     if shares is None:
         return [[1] * inlets for outlet in range(outlets)]
-    if not isinstance(shares, (list, tuple)) or len(shares) != outlets:
+    if not is_list_or_tuple(shares) or len(shares) != outlets:
         raise BadShares(outlets)
     for outlet, thing in enumerate(shares):
         if not are_shares(thing, inlets):

@@ -1,6 +1,7 @@
 """Loads: how many cells of each inlet for each outlet come in each so many beats."""
 
 from crossgrants.tables import turned
+from crossgrants.ways import INLET, OUTLET
 
 
 def sums_of(load):
@@ -18,7 +19,7 @@ def too_much(load):
     """The first inlet, else the first outlet, of which there are more than beats; None where there is none."""
     beats, numbers = load
     inlets, outlets = sums_of(load)
-    found = excess("inlet", inlets, beats) + excess("outlet", outlets, beats)
+    found = excess(INLET, inlets, beats) + excess(OUTLET, outlets, beats)
     return found[0] if found else None
 
 

@@ -1,18 +1,18 @@
 """Tables of asks: a row for each inlet, in it a 0 or 1 for each outlet."""
 
-from crossgrants.kinds import is_number
+from crossgrants.kinds import is_between
 
 MOST_PLACES = 12
 
 
 def is_size(thing):
     """Whether there may be so many inlets, or so many outlets."""
-    return is_number(thing) and 1 <= thing <= MOST_PLACES
+    return is_between(thing, 1, MOST_PLACES)
 
 
 def is_mark(thing):
     """Whether it may stand in a table: the number 0 or the number 1."""
-    return is_number(thing) and 0 <= thing <= 1
+    return is_between(thing, 0, 1)
 
 
 def is_row(thing, outlets):
@@ -33,6 +33,11 @@ def is_table(thing):
 def outlets_in(table):
     """How many outlets a table has."""
     return len(table[0]) if table else 0
+
+
+def marked(numbers):
+    """The table that asks where there is something in the numbers."""
+    return [[1 if number > 0 else 0 for number in row] for row in numbers]
 
 
 def asks_of(table):

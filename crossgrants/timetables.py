@@ -4,7 +4,7 @@ from crossgrants.errors import TooMuch
 from crossgrants.loads import sums_of, too_much
 from crossgrants.most import most_pairs
 from crossgrants.pairs import are_pairs
-from crossgrants.tables import turned
+from crossgrants.tables import marked, turned
 
 
 def idle_row(place, sums, beats):
@@ -23,11 +23,6 @@ def evened(load):
     upper = [list(row) + idle_row(inlet, inlets, beats) for inlet, row in enumerate(numbers)]
     lower = [idle_row(outlet, outlets, beats) + row for outlet, row in enumerate(turned(numbers))]
     return upper + lower
-
-
-def marked(numbers):
-    """The table that asks where there is something in the numbers."""
-    return [[1 if number > 0 else 0 for number in row] for row in numbers]
 
 
 def one_less(numbers, pairs):

@@ -8,3 +8,6 @@ FIRST = "first"
 EVEN = "even"
 EARLY = "early"
 LATE = "late"
+
+INLET = "inlet"
+OUTLET = "outlet"

@@ -29,6 +29,16 @@ DOUBLE_NAMES = set(
     " __bool__ __contains__ __getitem__ __setitem__".split()
 )
 FOLDED = {"any", "all", "min", "max", "sum", "sorted"}
+BUILTIN_METHODS = set(
+    "append clear copy count endswith extend find get index insert isalnum isalpha isdigit islower isspace isupper"
+    " items join keys ljust lower lstrip partition pop remove replace reverse rfind rjust rpartition rsplit rstrip"
+    " setdefault split splitlines startswith strip update upper values zfill bit_length isascii isdecimal".split()
+)
+BARRED_NAMES = set(
+    "register mro elements open input version_info with_traceback add_note attrgetter breakpoint builtins compile"
+    " copyright credits delattr dir eval exec exit gc getattr globals hasattr help id importlib license locals"
+    " methodcaller os quit setattr super type vars sys".split()
+)
 
 
 def files():
@@ -145,6 +155,47 @@ class CodeTest(unittest.TestCase):
         }
         stored = {node.attr for name, node in nodes(ast.Attribute) if isinstance(node.ctx, ast.Store)}
         self.assertEqual(methods & stored, set())
+
+    def test_attributes_that_are_read_are_there(self):
+        methods = {
+            method.name for name, node in nodes(ast.ClassDef) for method in node.body
+            if isinstance(method, ast.FunctionDef)
+        }
+        stored = {node.attr for name, node in nodes(ast.Attribute) if isinstance(node.ctx, ast.Store)}
+        for name, node in nodes(ast.Attribute):
+            self.assertIn(node.attr, methods | stored | BUILTIN_METHODS, name)
+        self.assertEqual((methods | stored) & BUILTIN_METHODS, set())
+
+    def test_methods_are_called_where_they_stand(self):
+        for path in files():
+            tree = ast.parse(path.read_text())
+            called = [node.func for node in ast.walk(tree) if isinstance(node, ast.Call)]
+            stored = {node.attr for name, node in nodes(ast.Attribute) if isinstance(node.ctx, ast.Store)}
+            for node in ast.walk(tree):
+                if isinstance(node, ast.Attribute) and node.attr not in stored:
+                    self.assertIn(node, called, (path.name, node.attr))
+
+    def test_barred_names(self):
+        for name, node in nodes((ast.Name, ast.arg, ast.FunctionDef, ast.ClassDef, ast.Attribute, ast.keyword)):
+            for field in ("id", "arg", "name", "attr"):
+                self.assertNotIn(getattr(node, field, None), BARRED_NAMES, name)
+
+    def test_what_stands_in_finally_is_simple(self):
+        for name, node in nodes(ast.Try):
+            self.assertEqual(node.handlers, [], name)
+            for row in node.finalbody:
+                self.assertRegex(ast.unparse(row), r"^self\.\w+ -= 1$|^self\.\w+\.append\(\('\w+', \w+\)\)$", name)
+
+    def test_no_two_files_import_from_each_other(self):
+        needs = {
+            name: {node.module.split(".")[-1] + ".py" for node in tree.body if isinstance(node, ast.ImportFrom)}
+            for name, tree in trees()
+        }
+        while needs:
+            free = [name for name in needs if not needs[name] & set(needs)]
+            self.assertTrue(free, needs)
+            for name in free:
+                del needs[name]
 
     def test_lists_are_folded_and_sorted(self):
         for name, node in nodes(ast.Call):

@@ -4,12 +4,12 @@ import copy
 import itertools
 import random
 
-from crossgrants.errors import Already, BadDeed, NoAsk, NoCell, NoInlet, NoOutlet, TooMany
+from crossgrants.errors import Already, BadDeed, BadRow, Busy, NoAsk, NoCell, NoInlet, NoOutlet, TooMany
 from crossgrants.grants import Grants, pairs_by
 from crossgrants.lefts import left_of
 from crossgrants.switch import Switch
 
-REFUSALS = (Already, BadDeed, NoAsk, NoCell, NoInlet, NoOutlet, TooMany)
+REFUSALS = (Already, BadDeed, BadRow, Busy, NoAsk, NoCell, NoInlet, NoOutlet, TooMany)
 
 
 class Cell:
@@ -184,17 +184,17 @@ class Model:
 
 
 def told_by(switch):
-    """All that a switch tells, as Model.told has it."""
+    """All that a switch tells, as Model.told has it; copied, so that nothing told later can change it."""
     inlets, outlets = len(switch.counts()), len(switch.counts()[0])
     places = list(itertools.product(range(inlets), range(outlets)))
-    return {
+    return copy.deepcopy({
         "waiting": [switch.waiting(i, o) for i, o in places],
         "counts": switch.counts(), "table": switch.table(), "now": switch.now(), "outs": switch.outs(),
         "crossed": switch.crossed(), "len": len(switch), "wide_place": switch.wide_place(),
         "pointers": switch.grants().pointers(), "places": switch.grants().places(),
         "left": [outcome(switch.left, i, o) for i, o in places],
         "wides": [switch.wide_waiting(i) for i in range(inlets)],
-    }
+    })
 
 
 def outcome(ask, *handed, **named):

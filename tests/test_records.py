@@ -266,8 +266,10 @@ class ShowsWhyTest(RecordTest):
     def test_truths_are_no_numbers_and_lists_no_tuples(self):
         record = self.record_of(Switch(1, 2), ("come", 0, 1, 2), ("go", 1))
         self.assert_same((record.why(0), record.why(1)), ([(1, "crossed", (1,))], [(1, "behind", 0)]))
-        for thing in ([(True, "crossed", (1,))], [(1, "crossed", (True,))], [(1, "crossed", [1])], [[1, "crossed", (1,)]],
-                      ((1, "crossed", (1,)),), [(1, "crossed", 1)], [(1, "crossed", (1, 1))], [(1, "crossed", ("1",))]):
+        for thing in (
+            [(True, "crossed", (1,))], [(1, "crossed", (True,))], [(1, "crossed", [1])], [[1, "crossed", (1,)]],
+            ((1, "crossed", (1,)),), [(1, "crossed", 1)], [(1, "crossed", (1, 1))], [(1, "crossed", ("1",))],
+        ):
             self.assert_told(record.shows_why, False, 0, thing)
         for thing in ([(1, "behind", False)], [(1, "behind", None)], [(True, "behind", 0)]):
             self.assert_told(record.shows_why, False, 1, thing)

@@ -316,7 +316,8 @@ class BeatTest(SwitchTest):
             switch, model = moved_switch(setting, deeds)
             for deed in deeds:
                 before, wide = switch.grants(), setting[5]
-                kept = deed[0] != "go" or setting[4] == FIRST or (wide and deed[1] == 1 and not (switch.now() + 1) % wide)
+                wide_beat = wide and deed == ("go", 1) and (switch.now() + 1) % wide == 0
+                kept = deed[0] != "go" or setting[4] == FIRST or wide_beat
                 outcome(deed_by_method, switch, deed)
                 if kept:
                     self.assertTrue(switch.grants() == before)

@@ -55,7 +55,9 @@ class ComeWideTest(WideTest):
             for outlets in ([0], [3], [0, 3], [-1, 7]):
                 self.assert_refused_whole(switch, NoInlet, inlet, switch.come_wide, inlet, outlets)
             self.assert_refused_whole(switch, NoInlet, inlet, switch.wide_waiting, inlet)
-        for outlets, what in (([3], 3), ([0, 3], 3), ((7, 0, 3), 7), ([3, 7], 3), ((2, 1, -1, 9), -1), ([10**30], 10**30)):
+        for outlets, what in (
+            ([3], 3), ([0, 3], 3), ((7, 0, 3), 7), ([3, 7], 3), ((2, 1, -1, 9), -1), ([10**30], 10**30),
+        ):
             self.assert_refused_whole(switch, NoOutlet, what, switch.come_wide, 0, outlets)
         self.assert_same(switch.come_wide(0, [1]), 1)
 

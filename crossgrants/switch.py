@@ -108,16 +108,16 @@ class Switch:
         if self.wide_is_next():
             sent = self.send_wide()
         elif self.way == FIRST:
-            sent = self.send(first_pairs(self.table()))
+            sent = self.send_plain(first_pairs(self.table()))
         else:
             rounds = self.own_grants.beat(self.table(), rounds=self.rounds)
-            sent = self.send(pairs_by(rounds))
+            sent = self.send_plain(pairs_by(rounds))
         self.beats += 1
         crossing = sorted(sent)
         self.crossings.extend([(self.beats, outlet, inlet, number) for outlet, inlet, number in crossing])
         return (rounds, crossing)
 
-    def send(self, pairs):
+    def send_plain(self, pairs):
         """The first cell that waits crosses for each of the pairs; tells (outlet, inlet, number) of each."""
         sent = []
         for inlet, outlet in pairs:
